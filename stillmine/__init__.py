@@ -1,0 +1,1 @@
+"""Stillmine: files kept through upgrades."""
