@@ -97,6 +97,11 @@ def standing(rule, contents, *, last=None, mark="none", mine=None, amid=False):
     return file
 
 
+def state_of(file):
+    """Return the state of a file, as stillmine/states.py tells what a state is."""
+    return file._state
+
+
 def is_content(value):
     """Return whether any value is a content: a text, or None."""
     return value is None or is_text(value)

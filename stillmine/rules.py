@@ -1,13 +1,17 @@
 """Rules: what a tool does with a file when something comes."""
 
 from stillmine.errors import BadLine, BadLines, BadRegisters
+from stillmine.plans import Plan
 
 PLACES = ("beside", "elder")
 WORDS_OF_TEXTS = ("here", "new", "nothing", "is", "not", "from", "or", "ask", "do", "otherwise")
 
 
 class Rule:
-    """A rule: the registers besides here, and the lines, the first fitting one of which is taken."""
+    """A rule: the registers besides here, and the lines, the first fitting one of which is taken.
+
+    The attribute plan is the rule as stillmine/states.py needs it.
+    """
 
     def __init__(self, registers, lines):
         if not are_registers(registers):
@@ -19,6 +23,7 @@ class Rule:
         # The lines are tuples throughout, so nobody can change them from outside.
         self._registers = names
         self._lines = tuple(lines)
+        self.plan = Plan(names, self.places, self._lines)
 
     @property
     def registers(self):

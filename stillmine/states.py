@@ -29,44 +29,55 @@ class Arrival:
     """
 
     def __init__(self, rule, state, new, renaming):
-        self._rule = rule
+        self._plan = rule.plan
         self._state = state
-        self._held = contents_by_name(rule, state, new)
+        # The positions in it are those of the plan.
+        self._held = list(state[0]) + [new, None]
         if renaming:
-            self._held["elder"] = self._held["here"]
-            self._held["here"] = None
-        self.position = line_taken(rule, self._held)
+            self._held[self._plan.elder] = self._held[0]
+            self._held[0] = None
+        self.position = line_taken(self._plan, self._held)
+        self._lists = self._plan.choices[self.position][1]
+
+    def answers(self):
+        """Return a tuple of the answers that there are: those to the question, or None alone."""
+        return ("take", "keep") if len(self._lists) == 2 else (None,)
 
     def steps(self, answer):
         """Return the steps to be done, a tuple; the answer counts only if the line asks."""
-        line = self._rule.lines[self.position]
-        if self._rule.asks(self.position) and answer == "keep":
-            return line[2]
-        return line[1]
+        return self._lists[-1] if answer == "keep" else self._lists[0]
+
+    def ways(self, stops):
+        """Return the list of all tuples (answer, stop) that there are, with stops or whole ones alone."""
+        told = []
+        for answer in self.answers():
+            if stops:
+                told.extend([(answer, stop) for stop in range(len(self.steps(answer)))])
+            told.append((answer, None))
+        return told
 
     def outcome(self, answer, stop):
         """Return the troubles, a list, and the state, if so many steps are done, all with the stop None."""
-        rule, last = self._rule, self._state[1]
+        plan, last, new = self._plan, self._state[1], self._held[-2]
         needless, mark, mine = self._question(answer)
         held = done(self._held, self.steps(answer), stop)
-        harm = harm_of(rule, held, mine) if mark == "own" else []
+        harm = harm_of(plan, held, mine) if mark == "own" else []
         if harm:
             mark, mine = "none", None
         remains = []
         if stop is None:
-            last = held["new"]
-            if mark == "free" or (mark == "own" and mine == last):
+            last = new
+            if mark == "free" or (mark == "own" and mine == new):
                 mark, mine = "none", None
-            remains = remains_of(rule, held, mark, mine)
-        contents = tuple([held[name] for name in ("here",) + rule.registers])
-        return needless + harm + remains, (contents, last, mark, mine, stop is not None)
+            remains = remains_of(plan, held, (mine,) if mark == "own" else ())
+        return needless + harm + remains, (tuple(held[:-2]), last, mark, mine, stop is not None)
 
     def _question(self, answer):
         """Return a list of at most one trouble, the mark, and mine, behind an answer or no question at all."""
         contents, _, mark, mine, _ = self._state
-        if not self._rule.asks(self.position):
+        if len(self._lists) == 1:
             return [], mark, mine
-        troubles = ["needless"] if is_needless(self._state, self._held["new"]) else []
+        troubles = ["needless"] if is_needless(self._state, self._held[-2]) else []
         # Behind the move of a renaming, here is no more what it was before the upgrade.
         here = contents[0]
         if answer == "take" and mark == "own":
@@ -76,27 +87,23 @@ class Arrival:
         return troubles, mark, mine
 
 
-def contents_by_name(rule, state, new):
-    """Return what the words in the lines of a rule stand for when new comes, a dict."""
-    held = {"new": new, "nothing": None}
-    for name, content in zip(("here",) + rule.registers, state[0]):
-        held[name] = content
-    return held
+def shown_by(rule, state):
+    """Return the list of what lies here and at the places in a state."""
+    return [state[0][spot] for spot in rule.plan.spots]
 
 
-def line_taken(rule, held):
+def line_taken(plan, held):
     """Return the position of the first line all of whose tests hold; the last line has none."""
-    for position, line in enumerate(rule.lines[:-1]):
-        if all([(held[one] == held[other]) == same for one, other, same in line[0]]):
+    for position, (tests, _) in enumerate(plan.choices[:-1]):
+        if all([(held[one] == held[other]) == same for one, other, same in tests]):
             return position
-    return len(rule.lines) - 1
+    return len(plan.choices) - 1
 
 
 def done(held, steps, stop):
-    """Return what names stand for behind so many steps, all of them with the stop None, a new dict."""
-    after = dict(held)
-    count = len(steps) if stop is None else stop
-    for target, source in steps[:count]:
+    """Return what stands at the positions behind so many steps, all of them with the stop None, a new list."""
+    after = list(held)
+    for target, source in steps[:stop]:
         after[target] = after[source]
     return after
 
@@ -110,21 +117,23 @@ def is_needless(state, new):
     return here == new or (last == new and not amid)
 
 
-def harm_of(rule, held, mine):
+def harm_of(plan, held, mine):
     """Return what became of a change that a person held on to: a list of at most one trouble."""
     if mine is None:
-        return [] if held["here"] is None else ["revived"]
-    if mine in [held[name] for name in ("here",) + rule.places]:
+        return [] if held[0] is None else ["revived"]
+    if mine in [held[spot] for spot in plan.spots]:
         return []
     return ["lost"]
 
 
-def remains_of(rule, held, mark, mine):
-    """Return the troubles that only a whole upgrade has, by what lies there behind it."""
-    own = [mine] if mark == "own" else []
+def remains_of(plan, held, own):
+    """Return the troubles that only a whole upgrade has, by what lies there behind it.
+
+    own is an empty tuple, or that of the change that a person still holds on to.
+    """
     troubles = []
-    if held["here"] not in [held["new"]] + own:
+    if held[0] not in (held[-2],) + own:
         troubles.append("stale")
-    if "elder" in rule.registers and held["elder"] not in [None] + own:
+    if plan.elder is not None and held[plan.elder] not in (None,) + own:
         troubles.append("left")
     return troubles

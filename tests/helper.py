@@ -138,3 +138,178 @@ def retold(file, new, *, answer=None, stop=None, renaming=False):
     contents = [at["here"]] + [at[name] for name in rule.registers]
     told = [word for word in ("needless", "lost", "revived", "stale", "left") if troubles[word]]
     return told, (contents, last, mark, (mine,) if held else None, not whole)
+
+
+# What the tests of patterns, tables, paths and pairs need. It asks files alone, not the package's own walks.
+
+TROUBLES = ("needless", "lost", "revived", "stale", "left")
+TEXTS_OF_NUMBERS = (None, "p", "q", "r", "s", "t", "u", "v", "w")
+
+
+def moving_rule():
+    """What was here before stays at elder until nobody holds on to it; a note has what came."""
+    return Rule(["elder", "was"], [
+        ((("here", "nothing", True), ("elder", "was", True)), (("elder", "nothing"), ("here", "new"), ("was", "new"))),
+        ((("here", "was", True),), (("here", "new"), ("was", "new"))),
+        ((), (("elder", "nothing"), ("here", "new"), ("was", "new")), (("elder", "here"), ("was", "new"))),
+    ])
+
+
+def beside_rule():
+    """What comes is laid beside a changed file, without a question."""
+    return Rule(["was", "beside"], [
+        ((("here", "was", True),), (("here", "new"), ("beside", "nothing"), ("was", "new"))),
+        ((("here", "new", True),), (("beside", "nothing"), ("was", "new"))),
+        ((), (("beside", "new"), ("was", "new"))),
+    ])
+
+
+def wide_rule():
+    """A rule with three registers that has a large table with stops."""
+    return Rule(["beside", "elder", "was"], [
+        ((("here", "was", True), ("new", "new", True)), (("elder", "nothing"), ("was", "new"), ("here", "new")),
+         (("here", "new"), ("elder", "here"), ("was", "was"))),
+        ((("new", "here", True),), (("was", "was"), ("was", "new"), ("here", "elder"), ("here", "beside")),
+         (("was", "beside"), ("beside", "elder"), ("was", "nothing"))),
+        ((), ()),
+    ])
+
+
+def sample_rules():
+    """Rules of several kinds, with small tables."""
+    return [simple_rule(), rule_that(()), rule_that((("here", "nothing"),), keep=(("here", "new"),)),
+            asking_rule(), moving_rule(), beside_rule()]
+
+
+def chance_rule(chance, registers):
+    """A rule with some registers, by a random.Random with a seed."""
+    def steps():
+        targets, sources = ["here", *registers], ["here", "new", "new", "nothing", *registers]
+        return tuple((chance.choice(targets), chance.choice(sources)) for _ in range(chance.randint(0, 3)))
+
+    def tests():
+        ones, others = ["here", "new", *registers], ["here", "new", "nothing", *registers]
+        return tuple((chance.choice(ones), chance.choice(others), chance.random() < 0.7)
+                     for _ in range(chance.randint(1, 2)))
+
+    count = chance.randint(1, 4)
+    return Rule(registers, [(tests() if position < count - 1 else (), *(steps() for _ in range(chance.choice((1, 2)))))
+                            for position in range(count)])
+
+
+def numbers_of(contents):
+    """Numbers for contents, in the sequence in which texts first stand there; 0 for nothing."""
+    texts = []
+    for content in contents:
+        if content is not None and content not in texts:
+            texts.append(content)
+    return tuple(0 if content is None else texts.index(content) + 1 for content in contents)
+
+
+def contents_of(file):
+    """The contents that a pattern has numbers for."""
+    contents, last, _, change, _ = picture(file)
+    return [*contents, last, change[0] if change else None]
+
+
+def pattern_by_hand(file):
+    """The pattern of a file by point [9]."""
+    return numbers_of(contents_of(file)), file.mark, file.amid
+
+
+def file_with(rule, pattern):
+    """A file with a pattern, with the texts of TEXTS_OF_NUMBERS."""
+    numbers, mark, amid = pattern
+    contents = [TEXTS_OF_NUMBERS[number] for number in numbers]
+    return standing(rule, contents[:-2], last=contents[-2], mark=mark, mine=contents[-1], amid=amid)
+
+
+def contents_to_try(*files):
+    """Nothing, the texts of some files, and one that is none of these."""
+    texts = [content for file in files for content in contents_of(file) if content is not None]
+    another = next(text for text in ("another" + "!" * count for count in range(len(texts) + 1)) if text not in texts)
+    return [None, *dict.fromkeys(texts), another]
+
+
+def deeds_by_hand(file, contents, stops):
+    """All tuples (deed, troubles, file behind) with some contents, in the sequence in which steps_from tells them."""
+    told = []
+    for content in contents:
+        if not file.amid and content != file.here:
+            behind = file.fork()
+            behind.edit(content)
+            told.append((("edit", content), [], behind))
+    for word in ("upgrade", "renamed")[:2 if "elder" in file.rule.registers else 1]:
+        for content in contents:
+            asked = isinstance(caught(getattr(file.fork(), word), content), errors.Unanswered)
+            for answer in ("take", "keep") if asked else (None,):
+                for stop in (0, 1, 2, 3, None) if stops else (None,):
+                    behind = file.fork()
+                    try:
+                        troubles = getattr(behind, word)(content, answer=answer, stop=stop)
+                    except errors.BadStop:
+                        continue
+                    told.append(((word, content, answer, stop), troubles, behind))
+    return told
+
+
+def files_by_hand(file, stops):
+    """A dict from patterns to files: one of each pattern that deeds of a file lead to, its own among them."""
+    found = {pattern_by_hand(file): file}
+    waiting = [file]
+    while waiting:
+        here = waiting.pop()
+        for _, _, behind in deeds_by_hand(here, contents_to_try(here), stops):
+            if found.setdefault(pattern_by_hand(behind), behind) is behind:
+                waiting.append(behind)
+    return found
+
+
+def distances_by_hand(file, stops):
+    """A dict from troubles to the least numbers of deeds behind which a file can have them."""
+    distances = {}
+    level, seen, count = [file], {pattern_by_hand(file)}, 0
+    while level:
+        count += 1
+        following = []
+        for here in level:
+            for _, troubles, behind in deeds_by_hand(here, contents_to_try(here), stops):
+                for trouble in troubles:
+                    distances.setdefault(trouble, count)
+                pattern = pattern_by_hand(behind)
+                if pattern not in seen:
+                    seen.add(pattern)
+                    following.append(behind)
+        level = following
+    return distances
+
+
+def is_deed_by_hand(file, deed, stops):
+    """Whether a value is a deed of a path for a file, by point [10]."""
+    if not isinstance(deed, tuple) or len(deed) not in (2, 4):
+        return False
+    if not (deed[1] is None or isinstance(deed[1], str)) or isinstance(deed[-1], bool):
+        return False
+    return deed in [told[0] for told in deeds_by_hand(file, [deed[1]], stops)]
+
+
+def do(file, deed):
+    """Do a deed with a file; return its troubles."""
+    if deed[0] == "edit":
+        file.edit(deed[1])
+        return []
+    word, content, answer, stop = deed
+    return getattr(file, word)(content, answer=answer, stop=stop)
+
+
+def troubles_along(file, path, stops):
+    """The troubles of the last deed if a value is a list of deeds that a file can have, otherwise None."""
+    if not isinstance(path, list):
+        return None
+    troubles = []
+    file = file.fork()
+    for deed in path:
+        if not is_deed_by_hand(file, deed, stops):
+            return None
+        troubles = do(file, deed)
+    return troubles

@@ -33,6 +33,45 @@ STAGE_2 = '''
     ['f', 'own', True, True]
 '''
 
+STAGE_3 = '''
+    >>> from stillmine.patterns import is_pattern, pattern_of, steps_from
+    >>> file = File(rule)
+    >>> [pattern_of(file), file.upgrade("x"), pattern_of(file), file.edit("y"), pattern_of(file)]
+    [((0, 0, 0, 0), 'none', False), [], ((1, 1, 1, 0), 'none', False), None, ((1, 2, 2, 1), 'own', False)]
+    >>> steps_from(rule, ((0, 0, 0, 0), "none", False))[:2]
+    [(('edit', 1), (), ((1, 0, 0, 1), 'own', False)), (('upgrade', 0, None, None), (), ((0, 0, 0, 0), 'none', False))]
+    >>> [is_pattern(rule, ((1, 2, 2, 1), "own", False)), is_pattern(rule, ((2, 1, 1, 0), "none", False))]
+    [True, False]
+'''
+
+STAGE_4 = '''
+    >>> from stillmine.tables import is_closed, table
+    >>> [len(table(rule)), is_closed(rule, table(rule)), is_closed(rule, [((0, 0, 0, 0), "none", False)])]
+    [5, True, False]
+'''
+
+STAGE_5 = '''
+    >>> from stillmine.troubles import ahead, shortest, shows
+    >>> [shortest(rule, word) for word in ("needless", "lost", "revived", "stale")]
+    [None, None, None, None]
+    >>> path = shortest(rule, "needless", stops=True)
+    >>> [len(path), path[-1][0], shows(rule, "needless", path, stops=True), shows(rule, "needless", path)]
+    [2, 'upgrade', True, False]
+    >>> simple = Rule([], [((), (("here", "new"),))])
+    >>> [len(shortest(simple, "lost")), shows(simple, "lost", [("edit", "x"), ("upgrade", "y", None, None)])]
+    [2, True]
+    >>> file = File(simple)
+    >>> [file.edit("x"), len(ahead(file, "lost")), file.upgrade("x"), len(ahead(file, "lost")), ahead(file, "needless")]
+    [None, 1, [], 2, None]
+'''
+
+STAGE_6 = '''
+    >>> from stillmine.alike import alike, parting
+    >>> noisy = Rule(["was"], [untouched, arrived, ask])
+    >>> [alike(rule, rule), alike(rule, noisy), len(parting(rule, noisy)), parting(rule, simple)[-1][0]]
+    [True, False, 2, 'upgrade']
+'''
+
 
 def examples(text):
     """The pairs of a line that is entered and the line that is shown, "" if none is."""
@@ -58,10 +97,10 @@ def shown(code, names):
 
 
 class Examples(unittest.TestCase):
-    def test_both_headings(self):
+    def test_all_headings(self):
         names = {}
-        pairs = examples(STAGE_1) + examples(STAGE_2)
-        self.assertEqual(len(pairs), 17)
+        pairs = [pair for text in (STAGE_1, STAGE_2, STAGE_3, STAGE_4, STAGE_5, STAGE_6) for pair in examples(text)]
+        self.assertEqual(len(pairs), 35)
         for code, result in pairs:
             with self.subTest(code):
                 self.assertEqual(shown(code, names), result)

@@ -27,6 +27,15 @@ INTERFACE = {
         "File.renamed": "(self, content, *, answer=None, stop=None)",
         "standing": "(rule, contents, *, last=None, mark='none', mine=None, amid=False)",
     },
+    "patterns": {
+        "pattern_of": "(file)", "is_pattern": "(rule, value)", "steps_from": "(rule, pattern, *, stops=False)",
+    },
+    "tables": {"table": "(rule, *, stops=False)", "is_closed": "(rule, value, *, stops=False)"},
+    "troubles": {
+        "shortest": "(rule, trouble, *, stops=False)", "ahead": "(file, trouble, *, stops=False)",
+        "shows": "(rule, trouble, value, *, stops=False)",
+    },
+    "alike": {"parting": "(first, second)", "alike": "(first, second)"},
 }
 
 
