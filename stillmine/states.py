@@ -56,6 +56,10 @@ class Arrival:
             told.append((answer, None))
         return told
 
+    def point(self, answer, stop):
+        """Return the stop point (line, list, done) where an upgrade is stopped, or None if it is whole."""
+        return None if stop is None else (self.position, answer or "steps", stop)
+
     def outcome(self, answer, stop):
         """Return the troubles, a list, and the state, if so many steps are done, all with the stop None."""
         plan, last, new = self._plan, self._state[1], self._held[-2]

@@ -22,12 +22,15 @@ def pattern_of_state(state):
     return (numbered(held_by(state)), state[2], state[4])
 
 
-def contents_that_count(contents):
-    """Return the list of the contents that can make a difference beside some: nothing, these, and another one."""
+def contents_that_count(contents, letters=LETTERS):
+    """Return the list of the contents that can make a difference beside some: nothing, these, and another one.
+
+    The other one is one of some letters; there is none if all of them are among the contents.
+    """
     known = {None: True}
     for content in contents:
         known[content] = True
-    others = [letter for letter in LETTERS if letter not in known]
+    others = [letter for letter in letters if letter not in known]
     return list(known) + others[:1]
 
 
@@ -43,13 +46,20 @@ def arrivals_of(rule):
 
 def steps_of(rule, state, contents, stops):
     """Return the list of all tuples (deed, troubles, state behind) for deeds in a state with some contents."""
-    steps = [(("edit", content), (), edited(state, content)) for content in contents if is_edit(state, content)]
+    return [step for _, step in pointed_steps_of(rule, state, contents, stops)]
+
+
+def pointed_steps_of(rule, state, contents, stops):
+    """Return the list of all tuples (stop point or None, step), the steps as steps_of tells them."""
+    edits = [content for content in contents if is_edit(state, content)]
+    steps = [(None, (("edit", content), (), edited(state, content))) for content in edits]
     for word in arrivals_of(rule):
         for content in contents:
             arrival = Arrival(rule, state, content, word == "renamed")
             for answer, stop in arrival.ways(stops):
                 troubles, after = arrival.outcome(answer, stop)
-                steps.append(((word, content, answer, stop), tuple(troubles), after))
+                step = ((word, content, answer, stop), tuple(troubles), after)
+                steps.append((arrival.point(answer, stop), step))
     return steps
 
 

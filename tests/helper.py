@@ -37,6 +37,16 @@ def rule_that(steps, *, keep=None, registers=()):
     return Rule(registers, [((), steps) if keep is None else ((), steps, keep)])
 
 
+def rule_of(registers, *rows):
+    """A rule by short texts, a row for each line: tests with = and !, ":", and steps with <; "|" if it asks."""
+    lines = []
+    for row in rows:
+        before, behind = row.split(":")
+        tests = tuple((*test.replace("!", "=").split("="), "=" in test) for test in before.split())
+        lines.append((tests, *(tuple(tuple(step.split("<")) for step in part.split()) for part in behind.split("|"))))
+    return Rule(registers, lines)
+
+
 def deep(kind):
     """A value nested 30 deep."""
     value = "x"

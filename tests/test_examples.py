@@ -72,6 +72,29 @@ STAGE_6 = '''
     [True, False, 2, 'upgrade']
 '''
 
+STAGE_7 = '''
+    >>> from stillmine.ways import hanging
+    >>> [hanging(simple, "take"), len(hanging(rule, "take")[0]), len(hanging(rule, "keep")[0])]
+    [None, 1, 1]
+'''
+
+STAGE_8 = '''
+    >>> from stillmine.notes import enough, without
+    >>> spare = Rule(["was", "other"], [untouched, arrived, same, ((), (("here", "new"), ("was", "new"), ("other", "new")), (("was", "new"),))])
+    >>> [enough(rule), enough(spare), without(rule, ["was"]).lines[1]]
+    [[['was']], [['was']], ((('here', 'new', True),), (('was', 'nothing'),))]
+'''
+
+STAGE_9 = '''
+    >>> from stillmine.stops import closing, harmful, shown
+    >>> harmful(rule, "needless")
+    [[(0, 'steps', 1)], [(3, 'take', 0)], [(3, 'take', 1)]]
+    >>> [harmful(rule, "lost"), harmful(simple, "lost"), closing(simple, "lost"), len(closing(rule, "needless"))]
+    [[], [[]], None, 3]
+    >>> [len(shown(rule, "needless", [(0, "steps", 1)])), shown(rule, "needless", [(0, "steps", 0)])]
+    [2, None]
+'''
+
 
 def examples(text):
     """The pairs of a line that is entered and the line that is shown, "" if none is."""
@@ -99,8 +122,9 @@ def shown(code, names):
 class Examples(unittest.TestCase):
     def test_all_headings(self):
         names = {}
-        pairs = [pair for text in (STAGE_1, STAGE_2, STAGE_3, STAGE_4, STAGE_5, STAGE_6) for pair in examples(text)]
-        self.assertEqual(len(pairs), 35)
+        stages = (STAGE_1, STAGE_2, STAGE_3, STAGE_4, STAGE_5, STAGE_6, STAGE_7, STAGE_8, STAGE_9)
+        pairs = [pair for text in stages for pair in examples(text)]
+        self.assertEqual(len(pairs), 44)
         for code, result in pairs:
             with self.subTest(code):
                 self.assertEqual(shown(code, names), result)

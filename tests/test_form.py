@@ -36,12 +36,24 @@ INTERFACE = {
         "shows": "(rule, trouble, value, *, stops=False)",
     },
     "alike": {"parting": "(first, second)", "alike": "(first, second)"},
+    "ways": {"hanging": "(rule, answer)"},
+    "notes": {"without": "(rule, names)", "enough": "(rule)"},
+    "stops": {
+        "harmful": "(rule, trouble)", "closing": "(rule, trouble)", "shown": "(rule, trouble, points)",
+    },
 }
 
 
 def functions(tree):
     """All functions and methods of a file."""
     return [node for node in ast.walk(tree) if isinstance(node, (ast.FunctionDef, ast.AsyncFunctionDef))]
+
+
+def defined_names(module_name):
+    """The names that a file itself gives to functions, classes and values."""
+    tree = ast.parse(inspect.getsource(importlib.import_module(module_name)))
+    targets = [node.targets[0].id for node in tree.body if isinstance(node, ast.Assign)]
+    return targets + [node.name for node in tree.body if isinstance(node, (ast.FunctionDef, ast.ClassDef))]
 
 
 class Form(unittest.TestCase):
@@ -89,8 +101,8 @@ class Form(unittest.TestCase):
                     self.assertEqual(node.level, 0)
                     self.assertTrue(node.module.startswith("stillmine."))
                     for name in node.names:
-                        value = getattr(importlib.import_module(node.module), name.name)
-                        self.assertEqual((value.__module__, name.asname), (node.module, None))
+                        self.assertIsNone(name.asname)
+                        self.assertIn(name.name, defined_names(node.module))
 
     def test_only_properties_as_decorators(self):
         for _, text in self.each_file():
