@@ -9,30 +9,32 @@ def least_masks(web):
     They are sought from GOAL backwards, as few nodes lead to a trouble in few ways, and many are led to.
     """
     back = turned(web)
-    found = [[] for _ in web]
+    found = [{} for _ in web]
     waiting = [(GOAL, 0)]
     # All masks of a round have the same number of bits, so that none found in a later one is less.
     while waiting:
         following = {}
         while waiting:
             node, mask = waiting.pop()
-            if has_part(found[START], mask) or has_part(found[node], mask):
+            if has_part(found[node], mask) or has_part(found[START], mask):
                 continue
-            found[node].append(mask)
+            found[node].setdefault(mask & -mask, []).append(mask)
             for source, edge in back[node].items():
                 if edge & (mask | FREE):
                     waiting.append((source, mask))
                 else:
                     following.update({(source, mask | bit): True for bit in bits_of(edge)})
         waiting = list(following)
-    return found[START]
+    return [mask for masks in found[START].values() for mask in masks]
 
 
-def has_part(masks, whole):
-    """Return whether one of some masks has no bits but those of a whole one."""
-    for mask in masks:
-        if mask & whole == mask:
-            return True
+def has_part(found, whole):
+    """Return whether a mask is found that has no bits but those of a whole one; found has lists by lowest bits."""
+    for bit in found:
+        if bit & whole == bit:
+            for mask in found[bit]:
+                if mask & whole == mask:
+                    return True
     return False
 
 

@@ -95,6 +95,48 @@ STAGE_9 = '''
     [2, None]
 '''
 
+STAGE_10 = '''
+    >>> from stillmine.fewest import fewest
+    >>> [fewest(simple, "lost")[0], fewest(rule, "lost"), fewest(rule, "needless", stops=True)[0]]
+    [1, None, 2]
+'''
+
+STAGE_11 = '''
+    >>> from stillmine.houses import House
+    >>> house = House(rule)
+    >>> [house.bring({"conf": "a", "list": "b"}), house.lay("conf", "mine"), house.bring({"conf": "a", "list": "c"})]
+    [{}, None, {}]
+    >>> [house.names, house.file("conf").here, house.file("list").here, house.undo(1), house.file("list").here]
+    [['conf', 'list'], 'mine', 'c', None, 'b']
+    >>> house.bring({"conf": "d"})
+    raises Unanswered(3)
+'''
+
+STAGE_12 = r'''
+    >>> from stillmine.texts import read_rule, rule_text
+    >>> rule_text(rule)
+    'registers was\nhere is was: here from new, was from new\nhere is new: was from new\nnew is was: do nothing\notherwise: ask here from new, was from new or was from new'
+    >>> read_rule(rule_text(rule)) == rule
+    True
+'''
+
+STAGE_13 = '''
+    >>> from stillmine.bridges import bridges, crossed, crossing
+    >>> other = Rule(["seen"], [((("here", "seen", True),), (("here", "new"), ("seen", "new"))), ((("here", "new", True),), (("seen", "new"),)), ((("new", "seen", True),), ()), ((), (("here", "new"), ("seen", "new")), (("seen", "new"),))])
+    >>> bridges(rule, other)
+    [{'seen': 'was'}]
+    >>> [len(crossing(rule, other, {"seen": "nothing"}, "needless")), len(crossing(rule, other, {"seen": "here"}, "lost")), crossing(rule, other, {"seen": "was"}, "lost")]
+    [3, 3, None]
+    >>> file = File(rule)
+    >>> [file.upgrade("a"), file.edit("b")]
+    [[], None]
+    >>> made, told = crossed(file, other, {"seen": "was"})
+    >>> [made.here, made["seen"], made.change, told]
+    ['b', 'a', ('b',), []]
+    >>> crossed(file, other, {"was": "was"})
+    raises BadBridge({'was': 'was'})
+'''
+
 
 def examples(text):
     """The pairs of a line that is entered and the line that is shown, "" if none is."""
@@ -122,9 +164,10 @@ def shown(code, names):
 class Examples(unittest.TestCase):
     def test_all_headings(self):
         names = {}
-        stages = (STAGE_1, STAGE_2, STAGE_3, STAGE_4, STAGE_5, STAGE_6, STAGE_7, STAGE_8, STAGE_9)
+        stages = (STAGE_1, STAGE_2, STAGE_3, STAGE_4, STAGE_5, STAGE_6, STAGE_7, STAGE_8, STAGE_9, STAGE_10, STAGE_11,
+                  STAGE_12, STAGE_13)
         pairs = [pair for text in stages for pair in examples(text)]
-        self.assertEqual(len(pairs), 44)
+        self.assertEqual(len(pairs), 63)
         for code, result in pairs:
             with self.subTest(code):
                 self.assertEqual(shown(code, names), result)

@@ -41,6 +41,17 @@ INTERFACE = {
     "stops": {
         "harmful": "(rule, trouble)", "closing": "(rule, trouble)", "shown": "(rule, trouble, points)",
     },
+    "fewest": {"fewest": "(rule, trouble, *, stops=False)"},
+    "houses": {
+        "House": "(rule)", "House.file": "(self, name)", "House.lay": "(self, name, content)",
+        "House.bring": "(self, edition, *, moved=None, answers=None, stop=None)", "House.undo": "(self, number)",
+        "House.fork": "(self)", "House.__eq__": "(self, other)",
+    },
+    "texts": {"rule_text": "(rule)", "read_rule": "(text)"},
+    "bridges": {
+        "crossed": "(file, rule, bridge)", "crossing": "(first, second, bridge, trouble, *, stops=False)",
+        "bridges": "(first, second, *, stops=False)",
+    },
 }
 
 

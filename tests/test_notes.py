@@ -55,23 +55,20 @@ def one_that_matters_beside_another():
 
 class Without(unittest.TestCase):
     def test_each_note_and_several(self):
-        rule = Rule(["x", "beside", "y"], [
-            ((("x", "nothing", True), ("y", "here", False)), (("x", "new"), ("y", "x"), ("here", "y"), ("x", "x"))),
-            ((("beside", "new", True),), (("y", "here"),), (("x", "here"), ("beside", "x"), ("y", "nothing"))),
-            ((), (), (("y", "beside"), ("x", "nothing"))),
-        ])
-        self.assertEqual(without(rule, ["x"]).lines, (
-            ((("x", "nothing", True), ("y", "here", False)), (("x", "nothing"), ("y", "x"), ("here", "y"), ("x", "nothing"))),
-            ((("beside", "new", True),), (("y", "here"),), (("x", "nothing"), ("beside", "x"), ("y", "nothing"))),
-            ((), (), (("y", "beside"), ("x", "nothing"))),
-        ))
-        self.assertEqual(without(rule, ["y"]).lines, (
-            ((("x", "nothing", True), ("y", "here", False)), (("x", "new"), ("y", "nothing"), ("here", "y"), ("x", "x"))),
-            ((("beside", "new", True),), (("y", "nothing"),), (("x", "here"), ("beside", "x"), ("y", "nothing"))),
-            ((), (), (("y", "nothing"), ("x", "nothing"))),
-        ))
+        def rule_with(x_first, y_first, x_last, y_second, x_third, y_third):
+            """The same rule with other sources of steps into the two notes."""
+            return Rule(["x", "beside", "y"], [
+                ((("x", "nothing", True), ("y", "here", False)),
+                 (("x", x_first), ("y", y_first), ("here", "y"), ("x", x_last))),
+                ((("beside", "new", True),), (("y", y_second),), (("x", x_third), ("beside", "x"), ("y", y_third))),
+                ((), (), (("y", "nothing"), ("here", "x"))),
+            ])
+
+        rule = rule_with("new", "x", "x", "here", "here", "beside")
+        self.assertEqual(without(rule, ["x"]), rule_with("nothing", "x", "nothing", "here", "nothing", "beside"))
+        self.assertEqual(without(rule, ["y"]), rule_with("new", "nothing", "x", "nothing", "here", "nothing"))
         for names in (["x", "y"], ["y", "x"]):
-            self.assertEqual(without(rule, names), emptied(rule, ["x", "y"]))
+            self.assertEqual(without(rule, names), rule_with(*["nothing"] * 6))
             self.assertEqual(without(rule, names), without(without(rule, ["x"]), ["y"]))
 
     def test_chance_rules(self):
